@@ -1,0 +1,1 @@
+"""Roundowned: houses that own one another, and who carries them."""

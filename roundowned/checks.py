@@ -1,0 +1,76 @@
+"""What an argument must be, and the errors for those that are not so."""
+
+from roundowned.errors import NoBoards, NoHolder, NoHouse, NoLot, NoPerson, NoVote, TooMany
+
+MOST_SHARES = 15
+
+
+def whole(thing):
+    """Whether a thing is an integer."""
+    return isinstance(thing, int) and not isinstance(thing, bool)
+
+
+def number_in(thing, low, high):
+    """Whether a thing is an integer from low to high."""
+    return whole(thing) and low <= thing <= high
+
+
+def numbers_below(things, many):
+    """Whether all of some things are integers from 0 on, fewer than many."""
+    return all([number_in(thing, 0, many - 1) for thing in things])
+
+
+def climbs(numbers):
+    """Whether each number is less than the next one."""
+    return all([low < high for low, high in zip(numbers, numbers[1:])])
+
+
+def right_lot(thing, many):
+    """Whether a thing is an ascending tuple of unlike numbers below many, perhaps none."""
+    return isinstance(thing, tuple) and len(thing) <= many and numbers_below(thing, many) and climbs(thing)
+
+
+def right_order(thing, many):
+    """Whether a thing is a tuple with each number below many once."""
+    if not isinstance(thing, tuple) or len(thing) != many:
+        return False
+    return numbers_below(thing, many) and sorted(thing) == list(range(many))
+
+
+def right_flags(thing, many):
+    """Whether a thing is a tuple of so many flags."""
+    return isinstance(thing, tuple) and len(thing) == many and all([isinstance(flag, bool) for flag in thing])
+
+
+def right_holder(thing, folk, many):
+    """Whether a thing is a holder in a web of so many folk and so many houses."""
+    if not isinstance(thing, tuple) or len(thing) != 2 or not isinstance(thing[0], str):
+        return False
+    if thing[0] == "f":
+        return number_in(thing[1], 0, folk - 1)
+    return thing[0] == "h" and number_in(thing[1], 0, many - 1)
+
+
+def right_shares(thing, folk, many):
+    """Whether a thing is what a house of a web of so many folk and houses is constructed from."""
+    if not isinstance(thing, tuple) or len(thing) > MOST_SHARES or len(thing) % 2 == 0:
+        return False
+    return all([right_holder(holder, folk, many) for holder in thing]) and list(thing) == sorted(thing)
+
+
+def check_house(web, house):
+    """Raise NoHouse for what is no number of a house."""
+    if not number_in(house, 0, len(web.houses) - 1):
+        raise NoHouse()
+
+
+def check_person(web, person):
+    """Raise NoPerson for what is no number of one of the folk."""
+    if not number_in(person, 0, web.folk - 1):
+        raise NoPerson()
+
+
+def check_holder(web, holder):
+    """Raise NoHolder for what is no holder in the web."""
+    if not right_holder(holder, web.folk, len(web.houses)):
+        raise NoHolder()

@@ -1,0 +1,30 @@
+"""Which houses hold shares of which: the ways along which control is handed on."""
+
+
+def house_holders(web):
+    """For each house the ascending list of the houses that hold its shares, each as often as it holds some."""
+    return [[number for kind, number in shares if kind == "h"] for shares in web.houses]
+
+
+def house_holdings(web):
+    """For each house the ascending list of the houses of which it holds shares, each as often as it holds some."""
+    into = [[] for _ in web.houses]
+    for house, holders in enumerate(house_holders(web)):
+        for holder in holders:
+            into[holder].append(house)
+    return into
+
+
+def reached(start, near, seen):
+    """The list of the houses reached from one by what is near to each; seen ones are left out, found ones marked."""
+    seen[start] = True
+    found = [start]
+    at = 0
+    while at < len(found):
+        house = found[at]
+        for goal in near[house]:
+            if not seen[goal]:
+                seen[goal] = True
+                found.append(goal)
+        at += 1
+    return found

@@ -1,0 +1,146 @@
+"""Webs, wrong things and helpers for the tests."""
+
+import random
+
+from roundowned.errors import BadWeb, HouseError, NoHouse, TooMany
+from roundowned.making import beside, closed, founded, put_in, sold
+from roundowned.webs import Web
+
+A = Web(3, ((("f", 0), ("f", 1), ("f", 2)),))
+K = Web(1, ((("f", 0), ("h", 1), ("h", 1)), (("f", 0), ("h", 0), ("h", 0))))
+C = Web(1, ((("h", 1),), (("h", 2),), (("h", 0),)))
+EMPTY = Web(2, ())
+SELF = Web(2, ((("f", 1), ("h", 0), ("h", 0)),))
+CHAIN = Web(3, ((("f", 0),), (("f", 1), ("f", 2), ("h", 0)), (("f", 0), ("h", 0), ("h", 1)), (("h", 2),)))
+MIXED = Web(3, (
+    (("f", 0), ("f", 1), ("h", 1)),
+    (("f", 1), ("f", 2), ("h", 0)),
+    (("h", 0), ("h", 1), ("h", 3)),
+    (("f", 2), ("h", 2), ("h", 2)),
+    (("f", 0), ("f", 0), ("f", 1), ("f", 2), ("h", 4)),
+))
+FULL = Web(6, tuple(tuple(sorted((("f", k % 6), ("h", k), ("h", (k + 1) % 12)))) for k in range(12)))
+
+
+def nested(depth, kind):
+    """A thing of lists or tuples nested so deep."""
+    thing = 0
+    for _ in range(depth):
+        thing = kind((thing,))
+    return thing
+
+
+def chain_of(doublings):
+    """A row of 12 houses, each held by the one ahead, its length doubled so often; it ends in house 11."""
+    web = Web(1, ((("f", 0),),) + tuple((("h", k),) for k in range(11)))
+    for _ in range(doublings):
+        web = put_in(web, 0, web, 11)
+    return web
+
+
+def ring_of(doublings):
+    """A ring of 12 houses, its length doubled so often."""
+    web = chain_of(doublings)
+    return sold(web, web.houses.index((("f", 0),)), 0, ("h", 11))
+
+
+def wide():
+    """A web with rings and with more shares in a house than a caller may construct: 15, 25 and 75."""
+    web = Web(3, (
+        (("f", 0), ("f", 1), ("f", 2), ("h", 1), ("h", 2)),
+        (("f", 0), ("h", 0), ("h", 2)),
+        (("f", 0), ("f", 0), ("f", 1), ("h", 0), ("h", 1)),
+        tuple([("f", 2)] * 7 + [("h", 0)] + [("h", 1)] * 7),
+    ))
+    return closed(web, 0)
+
+
+def many():
+    """A web with more houses than a caller may construct."""
+    return founded(beside(MIXED, beside(MIXED, CHAIN)), (("f", 2), ("h", 13), ("h", 14)))
+
+
+PLAIN = [A, K, C, EMPTY, SELF, CHAIN, MIXED, FULL]
+
+WRONG = [
+    None, True, False, -1, 10 ** 39, -10 ** 39, "", "f", "h", "0", "f0", b"", b"f", b"\x00", [], (), {}, {0: 1},
+    [0], [True], (True,), (None,), ("f",), ("f", -1), ("f", True), ("f", "0"), ("f", 0, 0), ["f", 0], ["h", 0],
+    ("g", 0), (b"f", 0), (0, "f"), ("f", None), ("h", False), ("h", -1), ("h", 10 ** 39), ("f", 10 ** 39),
+    (("f", 0),) * 2, [("f", 0)], (["f", 0],), ((("f", 0),),), (int,), int, len, range(1), Ellipsis,
+    nested(40, tuple), nested(40, list), (nested(39, tuple), 0), (0,) * 10000, [True] * 10000, "x" * 20000,
+    A, K, NoHouse(), BadWeb("folk"), TooMany(3), (A,), [NoHouse()], bytearray(b"f"), slice(1), {"f": 0}, {("f", 0): 0},
+]
+
+
+def wrong_but(fits):
+    """The wrong things but those that a test tells to be right."""
+    return [thing for thing in WRONG if not fits(thing)]
+
+
+def integer(thing, many):
+    """Whether a thing is an integer from 0 on, fewer than many."""
+    return type(thing) is int and 0 <= thing < many
+
+
+def random_web(rng, folk, houses, most=5, ringless=False):
+    """A web drawn by a seeded source."""
+    rows = []
+    for house in range(houses):
+        owners = house if ringless else houses
+        holders = [("f", k) for k in range(folk)] + [("h", k) for k in range(owners)]
+        rows.append(tuple(sorted(rng.choice(holders) for _ in range(rng.randrange(1, most + 1, 2)))))
+    return Web(folk, tuple(rows))
+
+
+def random_webs(seed, count, folk=3, houses=5, most=5):
+    """Webs of all sizes up to the told ones, some of them without rings."""
+    rng = random.Random(seed)
+    return [random_web(rng, rng.randint(1, folk), rng.randint(0, houses), rng.choice([1, 3, most]), k % 3 == 0)
+            for k in range(count)]
+
+
+def picture(thing):
+    """What can be seen of a thing, for a comparison with what it is later."""
+    if isinstance(thing, Web):
+        return ("web", thing.folk, picture(thing.houses))
+    if isinstance(thing, HouseError):
+        return (type(thing).__name__, repr(thing.__dict__))
+    if isinstance(thing, (list, tuple)):
+        return (type(thing).__name__, [picture(one) for one in thing])
+    if isinstance(thing, dict):
+        return ("dict", [(picture(key), picture(thing[key])) for key in thing])
+    return repr(thing)
+
+
+def caught(function, *told):
+    """The error that a call raises, None if it raises none; what was passed must be unchanged."""
+    before = picture(told)
+    try:
+        function(*told)
+    except HouseError as error:
+        assert picture(told) == before, function
+        return error
+    assert picture(told) == before, function
+    return None
+
+
+def error_of(function, *told):
+    """The class and the fields of the error that a call raises, None if it raises none."""
+    error = caught(function, *told)
+    return None if error is None else (type(error), error.__dict__)
+
+
+def kept(case, function, *told):
+    """What a call tells, seen to be the same when called again, and to leave what was passed."""
+    before = picture(told)
+    first = function(*told)
+    shown = picture(first)
+    again = function(*told)
+    case.assertEqual(picture(told), before)
+    case.assertEqual(picture(again), shown)
+    if isinstance(first, list):
+        case.assertIsNot(first, again)
+        first.append("more")
+        case.assertEqual(picture(function(*told)), shown)
+        first.pop()
+    return first
