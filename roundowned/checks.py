@@ -58,6 +58,11 @@ def right_shares(thing, folk, many):
     return all([right_holder(holder, folk, many) for holder in thing]) and list(thing) == sorted(thing)
 
 
+def right_row(thing, many):
+    """Whether a thing is a list or tuple of numbers below many."""
+    return isinstance(thing, (list, tuple)) and numbers_below(thing, many)
+
+
 def check_house(web, house):
     """Raise NoHouse for what is no number of a house."""
     if not number_in(house, 0, len(web.houses) - 1):
@@ -74,3 +79,27 @@ def check_holder(web, holder):
     """Raise NoHolder for what is no holder in the web."""
     if not right_holder(holder, web.folk, len(web.houses)):
         raise NoHolder()
+
+
+def check_vote(web, vote):
+    """Raise NoVote for what is no vote of the folk."""
+    if not right_flags(vote, web.folk):
+        raise NoVote()
+
+
+def check_boards(web, boards):
+    """Raise NoBoards for what is no boards of the houses."""
+    if not right_flags(boards, len(web.houses)):
+        raise NoBoards()
+
+
+def check_lot(web, lot):
+    """Raise NoLot for what is no lot of the folk."""
+    if not right_lot(lot, web.folk):
+        raise NoLot()
+
+
+def check_size(web, most):
+    """Raise TooMany for more houses than the most that a function takes."""
+    if len(web.houses) > most:
+        raise TooMany(most)

@@ -1,5 +1,6 @@
 """Webs, wrong things and helpers for the tests."""
 
+import itertools
 import random
 
 from roundowned.errors import BadWeb, HouseError, NoHouse, TooMany
@@ -75,6 +76,67 @@ WRONG = [
 def wrong_but(fits):
     """The wrong things but those that a test tells to be right."""
     return [thing for thing in WRONG if not fits(thing)]
+
+
+def wrong_houses(web):
+    return wrong_but(lambda thing: integer(thing, len(web.houses))) + [len(web.houses), len(web.houses) + 1]
+
+
+def wrong_people(web):
+    return wrong_but(lambda thing: integer(thing, web.folk)) + [web.folk, web.folk + 1]
+
+
+def is_lot(thing, many):
+    """Whether a thing is an ascending tuple of unlike numbers below many."""
+    return type(thing) is tuple and all(integer(one, many) for one in thing) and list(thing) == sorted(set(thing))
+
+
+def wrong_lots(web):
+    things = [(web.folk,), (0, web.folk), (0, 0), (-1, 0), (0, None), (0, "1"), (False, 1), [0, 1], "0", (0, nested(39, tuple)),
+              tuple(range(web.folk + 1)), (web.folk - 1, 0), ((0,),), (b"0",)]
+    return wrong_but(lambda thing: is_lot(thing, web.folk)) + [thing for thing in things if not is_lot(thing, web.folk)]
+
+
+def is_flags(thing, many):
+    """Whether a thing is a tuple of so many flags."""
+    return type(thing) is tuple and len(thing) == many and all(type(one) is bool for one in thing)
+
+
+def wrong_flags(many):
+    things = [(True,) * (many + 1), (False,) * (many + 2), (True,) * (many - 1), [True] * many, [False] * many,
+              (1,) * many, (0,) * many, (None,) * many, ("y",) * many, "y" * many, b"y" * many, {0: True},
+              (True,) * (many - 1) + (1,), (0,) + (True,) * (many - 1), (nested(39, tuple),) * many, (A,) * many]
+    return wrong_but(lambda thing: is_flags(thing, many)) + [thing for thing in things if not is_flags(thing, many)]
+
+
+def wrong_rows(web):
+    many = len(web.houses)
+    things = [(many,), [many], (0, many), [0, -1], [True], (0, False), ["0"], [None], [[0]], (0, nested(39, list)), {0: 0},
+              "0", b"0", range(many), {0: True}.keys(), [A], [0] * 9999 + ["0"]]
+    fits = lambda thing: type(thing) in (tuple, list) and all(integer(one, many) for one in thing)
+    return wrong_but(fits) + [thing for thing in things if not fits(thing)]
+
+
+def all_flags(many):
+    """All tuples of so many flags, ascending."""
+    return list(itertools.product([False, True], repeat=many))
+
+
+def all_lots(many):
+    """All ascending tuples of unlike numbers below many, ascending."""
+    return sorted(lot for size in range(many + 1) for lot in itertools.combinations(range(many), size))
+
+
+def check_errors(case, function, web, slots):
+    """The errors of a call, each as (class, a right argument, wrong ones): in their order, whatever comes behind."""
+    for at, (error, _, wrong) in enumerate(slots):
+        ahead = [slot[1] for slot in slots[:at]]
+        for thing in wrong:
+            case.assertEqual(error_of(function, web, *ahead, thing, *[slot[1] for slot in slots[at + 1:]]), (error, {}))
+            for later in [None, nested(40, list), True]:
+                told = (function, web, *ahead, thing, *[later for _ in slots[at + 1:]])
+                case.assertEqual(error_of(*told), (error, {}))
+    case.assertIsNone(error_of(function, web, *[slot[1] for slot in slots]))
 
 
 def integer(thing, many):

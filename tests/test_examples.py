@@ -2,6 +2,10 @@
 
 import unittest
 
+from roundowned.carrying import carried
+from roundowned.knots import is_knot, verdict
+from roundowned.lots import least_lots, says_most, turns
+from roundowned.meetings import met, says
 from roundowned.rings import circles, ring
 from roundowned.webs import Web, held
 
@@ -15,6 +19,20 @@ class Examples(unittest.TestCase):
         self.assertEqual(held(k, 0, ("h", 1)), 2)
         self.assertEqual(ring(k), (0, 1))
         self.assertEqual(circles(c), [(0, 1, 2)])
+
+    def test_e02(self):
+        self.assertIs(says(k, (True,), (False, False), 0), False)
+        self.assertEqual(met(k, (True,), (True, False), 1), (True, True))
+
+    def test_e03(self):
+        self.assertEqual(carried(a, (0, 1)), (0,))
+        self.assertEqual(verdict(k, (0,), 0), "hung")
+        self.assertIs(is_knot(k, (0,), (0, 1)), True)
+
+    def test_e04(self):
+        self.assertEqual(least_lots(a, 0), [(0, 1), (0, 2), (1, 2)])
+        self.assertEqual(turns(a, 0), (2, 2, 2))
+        self.assertEqual(says_most(a, 0), ((1, 3), (1, 3), (1, 3)))
 
 
 if __name__ == "__main__":

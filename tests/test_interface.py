@@ -8,6 +8,14 @@ INTERFACE = {
     "rings": "is_ringless(web); layers(web); ring(web); circles(web)",
     "making": "sold(web, house, share, holder); founded(web, shares); closed(web, house); renumbered(web, order);"
               "swapped(web, order); beside(one, other); put_in(web, person, other, house); spread(web, folk)",
+    "meetings": "says(web, vote, boards, house); met(web, vote, boards, house); changing(web, vote, boards);"
+                "all_met(web, vote, boards); meetings(web, vote, boards, row); cycle(web, vote, boards)",
+    "carrying": "carried(web, lot); carried_in(web, lot); row(web, lot, house); shortest_row(web, lot, house);"
+                "row_fault(web, lot, house, thing); is_row(web, lot, house, thing)",
+    "knots": "verdict(web, lot, house); hung(web, lot); carried_by_one(web, person); never_carried(web);"
+             "is_knot(web, lot, thing); knot_fault(web, lot, thing); ever_hung(web)",
+    "lots": "least_lots(web, house); barring_lots(web, house); needless(web, house); needed(web, house);"
+            "fewest_lost(web, lot, house); turns(web, house); says_most(web, house); fewest_added(web, lot, house)",
 }
 
 
