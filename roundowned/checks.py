@@ -27,14 +27,12 @@ def climbs(numbers):
 
 def right_lot(thing, many):
     """Whether a thing is an ascending tuple of unlike numbers below many, perhaps none."""
-    return isinstance(thing, tuple) and len(thing) <= many and numbers_below(thing, many) and climbs(thing)
+    return isinstance(thing, tuple) and numbers_below(thing, many) and climbs(thing)
 
 
 def right_order(thing, many):
     """Whether a thing is a tuple with each number below many once."""
-    if not isinstance(thing, tuple) or len(thing) != many:
-        return False
-    return numbers_below(thing, many) and sorted(thing) == list(range(many))
+    return isinstance(thing, tuple) and numbers_below(thing, many) and sorted(thing) == list(range(many))
 
 
 def right_flags(thing, many):

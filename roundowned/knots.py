@@ -60,6 +60,5 @@ def carried_by_one(web, person):
 
 def never_carried(web):
     """The ascending tuple of the houses that no lot carries."""
-    everybody = tuple(range(web.folk))
-    # What some lot carries, all folk together do.
-    return tuple(sorted(set(range(len(web.houses))) - set(carried(web, everybody))))
+    # What some lot carries, all folk together carry, and their rest, which is nobody, carries no house.
+    return hung(web, tuple(range(web.folk)))

@@ -31,11 +31,11 @@ def reached(start, near, seen):
 
 
 def clusters(web):
-    """The houses in ascending lists, as small as can be, such that none holds shares of a house of another list."""
+    """The houses in lists, as small as can be, such that none holds shares of a house of another list."""
     near = [holders + into for holders, into in zip(house_holders(web), house_holdings(web))]
     seen = [False for _ in near]
     found = []
     for start in range(len(near)):
         if not seen[start]:
-            found.append(sorted(reached(start, near, seen)))
+            found.append(reached(start, near, seen))
     return found

@@ -108,6 +108,33 @@ class Language(unittest.TestCase):
                     inner = bindings(node) - {node.name}
                     self.assertFalse(inner & outer, (name, node.name, inner & outer))
 
+    def test_what_is_iterated_at_once(self):
+        takers = {"list", "tuple", "dict", "sorted", "sum", "any", "all", "enumerate", "zip", "min", "max"}
+        for name, text in sources():
+            tree = ast.parse(text)
+            fits = set()
+            for node in ast.walk(tree):
+                if isinstance(node, (ast.For, ast.comprehension)):
+                    fits.add(node.iter)
+                if isinstance(node, ast.Call) and isinstance(node.func, ast.Name) and node.func.id in takers:
+                    fits.update(node.args[:1])
+            for node in ast.walk(tree):
+                if isinstance(node, ast.Call):
+                    called = node.func.id if isinstance(node.func, ast.Name) else node.func.attr
+                    if called in ("range", "zip", "enumerate", "reversed", "items", "keys", "values"):
+                        self.assertIn(node, fits, (name, node.lineno))
+
+    def test_sets_stand_in_sorted_or_len(self):
+        for name, text in sources():
+            tree = ast.parse(text)
+            calls = [node for node in ast.walk(tree) if isinstance(node, ast.Call) and isinstance(node.func, ast.Name)]
+            inside = {one for node in calls if node.func.id in ("sorted", "len") for one in node.args[:1]}
+            for node in ast.walk(tree):
+                self.assertNotIsInstance(node, (ast.Set, ast.SetComp), name)
+            for node in calls:
+                if node.func.id == "set":
+                    self.assertIn(node, inside, (name, node.lineno))
+
     def test_barred_words(self):
         for name, text in sources():
             for token in tokenize.generate_tokens(io.StringIO(text).readline):
