@@ -1,7 +1,9 @@
 """What an argument must be, and the errors for those that are not so."""
 
-from roundowned.errors import NoBoards, NoHolder, NoHouse, NoLot, NoPerson, NoVote, TooMany
+from roundowned.errors import NoBoards, NoFolk, NoHolder, NoHouse, NoLot, NoPerson, NoTable, NoVote, TooMany
+from roundowned.people import is_part
 
+MOST_FOLK = 6
 MOST_SHARES = 15
 
 
@@ -21,13 +23,20 @@ def numbers_below(things, many):
 
 
 def climbs(numbers):
-    """Whether each number is less than the next one."""
+    """Whether each number, or lot, is less than the next one."""
     return all([low < high for low, high in zip(numbers, numbers[1:])])
 
 
 def right_lot(thing, many):
     """Whether a thing is an ascending tuple of unlike numbers below many, perhaps none."""
     return isinstance(thing, tuple) and numbers_below(thing, many) and climbs(thing)
+
+
+def right_table(thing, folk):
+    """Whether a thing is an ascending tuple of lots of so many folk, none of them a part of another one."""
+    if not isinstance(thing, tuple) or not all([right_lot(lot, folk) for lot in thing]) or not climbs(thing):
+        return False
+    return not any([is_part(lot, other) for lot in thing for other in thing if lot != other])
 
 
 def right_order(thing, many):
@@ -95,6 +104,18 @@ def check_lot(web, lot):
     """Raise NoLot for what is no lot of the folk."""
     if not right_lot(lot, web.folk):
         raise NoLot()
+
+
+def check_folk(folk):
+    """Raise NoFolk for what is no number of folk."""
+    if not number_in(folk, 1, MOST_FOLK):
+        raise NoFolk()
+
+
+def check_table(folk, thing):
+    """Raise NoTable for what is no table for so many folk."""
+    if not right_table(thing, folk):
+        raise NoTable()
 
 
 def check_size(web, most):

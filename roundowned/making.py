@@ -1,8 +1,9 @@
 """Webs made from webs."""
 
-from roundowned.checks import check_holder, check_house, check_person, number_in, right_order, right_shares
+from roundowned.checks import (MOST_FOLK, check_holder, check_house, check_person, number_in, right_order,
+                               right_shares)
 from roundowned.errors import NoClosing, NoFolk, NoMatch, NoOrder, NoShare, NoShares
-from roundowned.webs import MOST_FOLK, web_of_any_size
+from roundowned.webs import web_of_any_size
 
 
 def renamed(houses, names):

@@ -8,11 +8,16 @@ def house_holders(web):
 
 def house_holdings(web):
     """For each house the ascending list of the houses of which it holds shares, each as often as it holds some."""
-    into = [[] for _ in web.houses]
-    for house, holders in enumerate(house_holders(web)):
-        for holder in holders:
-            into[holder].append(house)
-    return into
+    return backward(house_holders(web))
+
+
+def backward(near):
+    """For each number the ascending list of those to which it is near, each as often as it is."""
+    back = [[] for _ in near]
+    for number, others in enumerate(near):
+        for other in others:
+            back[other].append(number)
+    return back
 
 
 def reached(start, near, seen):

@@ -14,6 +14,11 @@ def size_first(lot):
     return (len(lot), lot)
 
 
+def is_part(part, lot):
+    """Whether all of one lot are among another one."""
+    return all([person in lot for person in part])
+
+
 def all_lots(folk):
     """The ascending list of all lots of so many folk."""
     return sorted(parts(tuple(range(folk))))
@@ -32,3 +37,11 @@ def without(lot, part):
 def together(lot, other):
     """Those of two lots that have nobody in common."""
     return tuple(sorted(lot + other))
+
+
+def all_flags(many):
+    """The ascending list of all tuples of so many flags."""
+    found = [()]
+    for _ in range(many):
+        found = [flags + (flag,) for flags in found for flag in (False, True)]
+    return found

@@ -1,6 +1,6 @@
 """Rings: rows of houses that own one another round about."""
 
-from roundowned.owning import house_holders, house_holdings, reached
+from roundowned.owning import backward, house_holders, house_holdings, reached
 
 
 def is_ringless(web):
@@ -35,22 +35,27 @@ def next_layer(layer, into, waiting):
 
 def circles(web):
     """The ascending list of the greatest lots of houses of which each owns, perhaps by others, into each."""
-    holders = house_holders(web)
-    order = leaving_order(house_holdings(web))
+    return circles_along(house_holdings(web))
+
+
+def circles_along(into):
+    """The same of any numbers, by the list for each of those into which it leads."""
+    back = backward(into)
+    order = leaving_order(into)
     seen = [False for _ in order]
     found = []
-    # In the turned order, a house that owns into a circle from outside is seen ahead of it,
+    # In the turned order, what leads into a circle from outside is seen ahead of it,
     # so against the ways nothing but the circle is left to be reached.
-    for house in reversed(order):
-        if not seen[house]:
-            lot = reached(house, holders, seen)
-            if len(lot) > 1 or house in holders[house]:
+    for start in reversed(order):
+        if not seen[start]:
+            lot = reached(start, back, seen)
+            if len(lot) > 1 or start in into[start]:
                 found.append(tuple(sorted(lot)))
     return sorted(found)
 
 
 def leaving_order(into):
-    """All houses, each where a walk in depth along the ways leaves it."""
+    """All numbers, each where a walk in depth along the ways leaves it."""
     order = []
     seen = [False for _ in into]
     for start in range(len(into)):
@@ -60,18 +65,18 @@ def leaving_order(into):
 
 
 def walk(start, into, seen, order):
-    """Walk in depth from a house to those not seen, mark them, and put each into the order when it is left."""
+    """Walk in depth from a number to those not seen, mark them, and put each into the order when it is left."""
     seen[start] = True
     # The path is a list of its own, no recursion: it may be as long as the web is large.
     path = [start]
     tried = [0 for _ in into]
     while path:
-        house = path[-1]
-        if tried[house] == len(into[house]):
+        last = path[-1]
+        if tried[last] == len(into[last]):
             order.append(path.pop())
         else:
-            goal = into[house][tried[house]]
-            tried[house] += 1
+            goal = into[last][tried[last]]
+            tried[last] += 1
             if not seen[goal]:
                 seen[goal] = True
                 path.append(goal)

@@ -1,9 +1,8 @@
 """Webs: some folk, houses, and who holds each share of these."""
 
-from roundowned.checks import check_holder, check_house, number_in, right_shares
+from roundowned.checks import MOST_FOLK, check_holder, check_house, number_in, right_shares
 from roundowned.errors import BadWeb
 
-MOST_FOLK = 6
 MOST_HOUSES = 12
 
 

@@ -61,6 +61,22 @@ def many():
     return founded(beside(MIXED, beside(MIXED, CHAIN)), (("f", 2), ("h", 13), ("h", 14)))
 
 
+def row_of(houses, folk=1):
+    """A web of so many houses, each held by the one ahead, the first by one of the folk."""
+    web = Web(folk, ())
+    for house in range(houses):
+        web = founded(web, (("h", house - 1),) if house else (("f", 0),))
+    return web
+
+
+def knotted(houses, folk=1):
+    """A web of so many houses, each holding itself, and one of the folk a share of each."""
+    web = Web(folk, ())
+    for house in range(houses):
+        web = founded(web, (("f", house % folk), ("h", house), ("h", house)))
+    return web
+
+
 PLAIN = [A, K, C, EMPTY, SELF, CHAIN, MIXED, FULL]
 
 WRONG = [
@@ -117,6 +133,40 @@ def wrong_rows(web):
     return wrong_but(fits) + [thing for thing in things if not fits(thing)]
 
 
+def is_right_table(thing, folk):
+    """Whether a thing is a table for so many folk."""
+    return (type(thing) is tuple and all(is_lot(lot, folk) for lot in thing) and list(thing) == sorted(set(thing))
+            and not any(one != other and set(one) <= set(other) for one in thing for other in thing))
+
+
+def wrong_tables(folk):
+    last = folk - 1
+    things = [[(0,)], ([0],), ((0,), (0,)), ((0,), ()), ((), (0,)), ((0,), (0, last)), ((last,), (0,)), ((0, 0),), ((last, 0),),
+              ((folk,),), ((0, folk),), ((-1,),), ((True,),), ((False,),), ((None,),), (0,), (None,), "0", ("0",), {(0,): 1},
+              (b"0",), ((b"0",),), ([],), [()], (nested(39, tuple),), ((0,), nested(39, list)), (A,), ((A,),), ((0,),) * 5000,
+              ((last,), (0, 1)), (tuple(range(folk + 1)),), tuple((k,) for k in range(folk + 1)), ((0,), None)]
+    fits = lambda thing: is_right_table(thing, folk)
+    return wrong_but(fits) + [thing for thing in things if not fits(thing)]
+
+
+def wrong_folks():
+    return wrong_but(lambda thing: integer(thing, 7) and thing > 0) + [0, 7, 8, -3, [3], (3,), "3", b"\x03", {3: 3}]
+
+
+def every_table(folk):
+    """All tables for so many folk, found by trying all lots of lots."""
+    found = [()]
+    for lot in all_lots(folk):
+        found += [table + (lot,) for table in found
+                  if not any(set(lot) <= set(one) or set(one) <= set(lot) for one in table)]
+    return sorted(found)
+
+
+def by_table(table, lot):
+    """Whether a lot carries by a table."""
+    return any(set(one) <= set(lot) for one in table)
+
+
 def all_flags(many):
     """All tuples of so many flags, ascending."""
     return list(itertools.product([False, True], repeat=many))
@@ -128,15 +178,30 @@ def all_lots(many):
 
 
 def check_errors(case, function, web, slots):
-    """The errors of a call, each as (class, a right argument, wrong ones): in their order, whatever comes behind."""
+    """The errors of a call of a web, each as (class, a right argument, wrong ones): in their order."""
+    check_calls(case, function, (web,), slots)
+
+
+def check_calls(case, function, first, slots):
+    """The errors of a call with some first arguments: in their order, whatever comes behind."""
     for at, (error, _, wrong) in enumerate(slots):
-        ahead = [slot[1] for slot in slots[:at]]
+        ahead = [*first, *[slot[1] for slot in slots[:at]]]
         for thing in wrong:
-            case.assertEqual(error_of(function, web, *ahead, thing, *[slot[1] for slot in slots[at + 1:]]), (error, {}))
+            told = (function, *ahead, thing, *[slot[1] for slot in slots[at + 1:]])
+            case.assertEqual(error_of(*told), (error, {}), told[1:])
             for later in [None, nested(40, list), True]:
-                told = (function, web, *ahead, thing, *[later for _ in slots[at + 1:]])
-                case.assertEqual(error_of(*told), (error, {}))
-    case.assertIsNone(error_of(function, web, *[slot[1] for slot in slots]))
+                told = (function, *ahead, thing, *[later for _ in slots[at + 1:]])
+                case.assertEqual(error_of(*told), (error, {}), told[1:])
+    case.assertIsNone(error_of(function, *first, *[slot[1] for slot in slots]))
+
+
+def check_too_many(case, most, function, web, slots):
+    """TooMany for a web with too many houses, behind all errors of the arguments."""
+    right = [slot[1] for slot in slots]
+    case.assertEqual(error_of(function, web, *right), (TooMany, {"most": most}))
+    for at, (error, _, wrong) in enumerate(slots):
+        for thing in wrong:
+            case.assertEqual(error_of(function, web, *right[:at], thing, *right[at + 1:]), (error, {}))
 
 
 def integer(thing, many):

@@ -2,11 +2,16 @@
 
 import unittest
 
+from roundowned.callers import chance
 from roundowned.carrying import carried
 from roundowned.knots import is_knot, verdict
 from roundowned.lots import least_lots, says_most, turns
 from roundowned.meetings import met, says
+from roundowned.orders import end_row, ends
+from roundowned.rests import double_votes, rests
 from roundowned.rings import circles, ring
+from roundowned.tables import kind, open_lot
+from roundowned.unrest import unrest
 from roundowned.webs import Web, held
 
 a = Web(3, ((("f", 0), ("f", 1), ("f", 2)),))
@@ -33,6 +38,24 @@ class Examples(unittest.TestCase):
         self.assertEqual(least_lots(a, 0), [(0, 1), (0, 2), (1, 2)])
         self.assertEqual(turns(a, 0), (2, 2, 2))
         self.assertEqual(says_most(a, 0), ((1, 3), (1, 3), (1, 3)))
+
+    def test_e05(self):
+        self.assertEqual(rests(k, (True,)), [(False, False), (True, True)])
+        self.assertEqual(double_votes(k), [(False,), (True,)])
+
+    def test_e06(self):
+        self.assertEqual(ends(k, (True,), (True, False)), [(False, False), (True, True)])
+        self.assertEqual(end_row(k, (True,), (True, False), (True, True)), (1,))
+        self.assertEqual(chance(k, (True,), (True, False), 0), (1, 2))
+
+    def test_e07(self):
+        self.assertIs(unrest(c, (True,), (True, False, False)) is None, False)
+        self.assertIs(unrest(k, (True,), (True, False)) is None, True)
+
+    def test_e08(self):
+        self.assertEqual(kind(3, ((0, 1), (0, 2), (1, 2))), "outright")
+        self.assertEqual(kind(2, ((0, 1),)), "round")
+        self.assertEqual(open_lot(2, ((0, 1),)), (0,))
 
 
 if __name__ == "__main__":

@@ -16,6 +16,15 @@ INTERFACE = {
              "is_knot(web, lot, thing); knot_fault(web, lot, thing); ever_hung(web)",
     "lots": "least_lots(web, house); barring_lots(web, house); needless(web, house); needed(web, house);"
             "fewest_lost(web, lot, house); turns(web, house); says_most(web, house); fewest_added(web, lot, house)",
+    "rests": "rests(web, vote); double_votes(web); many_rests(web, vote); greatest_rest(web, vote);"
+             "least_rest(web, vote); higher(web, vote, one, other); lower(web, vote, one, other); is_own(web); double(web)",
+    "orders": "greatest_end(web, vote, boards); least_end(web, vote, boards); settles(web, vote, boards);"
+              "ends(web, vote, boards); reachable(web, vote, boards); end_row(web, vote, boards, end);"
+              "fewest_meetings(web, vote, boards, house, flag); fate(web, vote, boards, house)",
+    "unrest": "unrest(web, vote, boards); is_unrest(web, vote, boards, thing)",
+    "callers": "chance(web, vote, boards, house); called(web, vote, boards, house, many)",
+    "tables": "is_table(folk, thing); carries(folk, table, lot); table(web, house); apart(folk, table);"
+              "open_lot(folk, table); kind(folk, table)",
 }
 
 

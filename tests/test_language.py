@@ -14,8 +14,9 @@ METHODS = set("""append clear copy count endswith extend find get index insert i
 isupper items join keys ljust lower lstrip partition pop remove replace reverse rfind rjust rpartition rsplit rstrip
 setdefault split splitlines startswith strip update upper values zfill bit_length __init__""".split())
 LIBRARY = {"math": {"gcd", "lcm", "factorial"}}
-BARRED = set("""type typing typing_extensions enum Enum IntEnum StrEnum Flag IntFlag Generic Protocol ABC ABCMeta
-namedtuple NamedTuple TypedDict TYPE_CHECKING abstractmethod register mro elements open input law version_info
+WORDS = set("""type typing typing_extensions enum Enum IntEnum StrEnum Flag IntFlag Generic Protocol ABC ABCMeta
+namedtuple NamedTuple TypedDict TYPE_CHECKING abstractmethod dataclass overload contextmanager""".split())
+BARRED = WORDS | set("""register mro elements open input law version_info
 with_traceback add_note breakpoint compile dir eval exec exit gc globals help id locals os quit super vars""".split())
 NODES = """Global AsyncFunctionDef Try TryStar With Match Yield YieldFrom GeneratorExp Await NamedExpr Starred Div Nonlocal
 AnnAssign Delete Assert JoinedStr MatMult""".split()
@@ -102,7 +103,7 @@ class Language(unittest.TestCase):
         for name, text in sources():
             tree = ast.parse(text)
             outer = {one.name for node in tree.body if isinstance(node, ast.ImportFrom) for one in node.names}
-            outer |= defined(tree)
+            outer |= {node.name for node in tree.body if isinstance(node, ast.ClassDef)}
             for node in ast.walk(tree):
                 if isinstance(node, ast.FunctionDef):
                     inner = bindings(node) - {node.name}
@@ -141,7 +142,7 @@ class Language(unittest.TestCase):
                 if token.type == tokenize.NAME:
                     self.assertNotIn(token.string, BARRED, (name, token.start))
                 if token.type == tokenize.STRING and not token.string.startswith('"""'):
-                    self.assertFalse(set(token.string.strip('"').split()) & BARRED, (name, token.start))
+                    self.assertFalse(set(token.string.strip('"').split()) & WORDS, (name, token.start))
                     self.assertNotIn("%", token.string)
 
 
