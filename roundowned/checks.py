@@ -78,8 +78,7 @@ def check_house(web, house):
 
 def check_person(web, person):
     """Raise NoPerson for what is no number of one of the folk."""
-    if not number_in(person, 0, web.folk - 1):
-        raise NoPerson()
+    check_one_of(web.folk, person)
 
 
 def check_holder(web, holder):
@@ -110,6 +109,12 @@ def check_folk(folk):
     """Raise NoFolk for what is no number of folk."""
     if not number_in(folk, 1, MOST_FOLK):
         raise NoFolk()
+
+
+def check_one_of(folk, person):
+    """Raise NoPerson for what is no number of one of so many folk."""
+    if not number_in(person, 0, folk - 1):
+        raise NoPerson()
 
 
 def check_table(folk, thing):

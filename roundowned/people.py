@@ -19,6 +19,11 @@ def is_part(part, lot):
     return all([person in lot for person in part])
 
 
+def has_part(lot, parts_told):
+    """Whether one of some lots is a part of a lot."""
+    return any([is_part(part, lot) for part in parts_told])
+
+
 def all_lots(folk):
     """The ascending list of all lots of so many folk."""
     return sorted(parts(tuple(range(folk))))

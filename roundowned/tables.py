@@ -3,7 +3,7 @@
 from roundowned.checks import check_folk, check_table, right_lot, right_table
 from roundowned.errors import NoLot
 from roundowned.lots import least_lots
-from roundowned.people import all_lots, is_part, rest_of
+from roundowned.people import all_lots, has_part, rest_of
 
 
 def is_table(folk, thing):
@@ -23,7 +23,7 @@ def carries(folk, table, lot):
     check_table(folk, table)
     if not right_lot(lot, folk):
         raise NoLot()
-    return any([is_part(least, lot) for least in table])
+    return has_part(lot, table)
 
 
 def kind(folk, table):
@@ -49,6 +49,6 @@ def open_lot(folk, table):
     check_folk(folk)
     check_table(folk, table)
     for lot in all_lots(folk):
-        if not carries(folk, table, lot) and not carries(folk, table, rest_of(folk, lot)):
+        if not has_part(lot, table) and not has_part(rest_of(folk, lot), table):
             return lot
     return None

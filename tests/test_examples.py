@@ -2,8 +2,10 @@
 
 import unittest
 
+from roundowned.building import is_made
 from roundowned.callers import chance
 from roundowned.carrying import carried
+from roundowned.counting import many_tables, wider
 from roundowned.knots import is_knot, verdict
 from roundowned.lots import least_lots, says_most, turns
 from roundowned.meetings import met, says
@@ -56,6 +58,14 @@ class Examples(unittest.TestCase):
         self.assertEqual(kind(3, ((0, 1), (0, 2), (1, 2))), "outright")
         self.assertEqual(kind(2, ((0, 1),)), "round")
         self.assertEqual(open_lot(2, ((0, 1),)), (0,))
+
+    def test_e09(self):
+        self.assertEqual([many_tables(folk, "outright") for folk in range(1, 6)], [1, 2, 4, 12, 81])
+        self.assertEqual(many_tables(4, "round"), 81)
+        self.assertEqual(wider(2, ((0, 1),)), ((0, 1), (0, 2), (1, 2)))
+
+    def test_e10(self):
+        self.assertIs(is_made(2, ((0, 1),), Web(2, ((("f", 0), ("f", 1), ("h", 0)),))), True)
 
 
 if __name__ == "__main__":

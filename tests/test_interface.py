@@ -25,6 +25,13 @@ INTERFACE = {
     "callers": "chance(web, vote, boards, house); called(web, vote, boards, house, many)",
     "tables": "is_table(folk, thing); carries(folk, table, lot); table(web, house); apart(folk, table);"
               "open_lot(folk, table); kind(folk, table)",
+    "counting": "tables(folk, kind); many_tables(folk, kind); table_number(folk, kind, table);"
+                "table_at(folk, kind, number); wider(folk, table); narrower(folk, table)",
+    "joining": "turned(folk, table); both(folk, table, other); either(folk, table, other);"
+               "without(folk, table, person); set_in(folk, table, person, other); above(folk, table)",
+    "kinds": "renamed(folk, table, order); first_of_kind(folk, table); same_kind(folk, table, other); kinds(folk, kind)",
+    "building": "tripled(web); made(folk, table); made_all(folk, tables); is_made(folk, table, thing);"
+                "refuted(folk, table, web); fewest_houses(folk, table)",
 }
 
 

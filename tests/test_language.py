@@ -13,7 +13,7 @@ isinstance ord repr any all divmod ValueError KeyError""".split())
 METHODS = set("""append clear copy count endswith extend find get index insert isalnum isalpha isdigit islower isspace
 isupper items join keys ljust lower lstrip partition pop remove replace reverse rfind rjust rpartition rsplit rstrip
 setdefault split splitlines startswith strip update upper values zfill bit_length __init__""".split())
-LIBRARY = {"math": {"gcd", "lcm", "factorial"}}
+LIBRARY = {"math": {"gcd", "lcm", "factorial"}, "itertools": {"permutations"}}
 WORDS = set("""type typing typing_extensions enum Enum IntEnum StrEnum Flag IntFlag Generic Protocol ABC ABCMeta
 namedtuple NamedTuple TypedDict TYPE_CHECKING abstractmethod dataclass overload contextmanager""".split())
 BARRED = WORDS | set("""register mro elements open input law version_info
@@ -110,7 +110,8 @@ class Language(unittest.TestCase):
                     self.assertFalse(inner & outer, (name, node.name, inner & outer))
 
     def test_what_is_iterated_at_once(self):
-        takers = {"list", "tuple", "dict", "sorted", "sum", "any", "all", "enumerate", "zip", "min", "max"}
+        takers = {"list", "tuple", "dict", "sorted", "sum", "any", "all", "enumerate", "zip", "min", "max",
+                  "permutations"}
         for name, text in sources():
             tree = ast.parse(text)
             fits = set()
@@ -122,7 +123,7 @@ class Language(unittest.TestCase):
             for node in ast.walk(tree):
                 if isinstance(node, ast.Call):
                     called = node.func.id if isinstance(node.func, ast.Name) else node.func.attr
-                    if called in ("range", "zip", "enumerate", "reversed", "items", "keys", "values"):
+                    if called in ("range", "zip", "enumerate", "reversed", "items", "keys", "values", "permutations"):
                         self.assertIn(node, fits, (name, node.lineno))
 
     def test_sets_stand_in_sorted_or_len(self):
