@@ -88,7 +88,6 @@ def fate(web, vote, boards, house):
     """At which word a house stands in all ends: "yes" or "no"; "open" if it stands at both."""
     check_stand(web, vote, boards)
     check_house(web, house)
-    check_size(web, MOST_FOR_ORDERS)
     flags = [end[house] for end in ends(web, vote, boards)]
     if all(flags):
         return "yes"

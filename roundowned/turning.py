@@ -20,8 +20,9 @@ def driven(web, vote, boards, flag):
     queue = [house for house, many in enumerate(lacking) if many <= 0 and boards[house] != flag]
     at = 0
     while at < len(queue):
-        now[queue[at]] = flag
-        for goal in into[queue[at]]:
+        house = queue[at]
+        now[house] = flag
+        for goal in into[house]:
             lacking[goal] -= 1
             # Just when the last one is counted off: a house that goes on below 0 queues already.
             if lacking[goal] == 0 and boards[goal] != flag:

@@ -189,6 +189,7 @@ def check_calls(case, function, first, slots):
         for thing in wrong:
             told = (function, *ahead, thing, *[slot[1] for slot in slots[at + 1:]])
             case.assertEqual(error_of(*told), (error, {}), told[1:])
+        for thing in wrong[::9]:
             for later in [None, nested(40, list), True]:
                 told = (function, *ahead, thing, *[later for _ in slots[at + 1:]])
                 case.assertEqual(error_of(*told), (error, {}), told[1:])

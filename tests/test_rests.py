@@ -85,6 +85,9 @@ class Rests(unittest.TestCase):
         one, other = (True, False, True), (False, True, True)
         self.assertEqual(kept(self, higher, two, (True,), one, other), (True, True, True))
         self.assertEqual(kept(self, lower, two, (True,), one, other), (False, False, False))
+        one, other = (True, False, False), (False, True, False)
+        self.assertEqual(kept(self, higher, two, (False,), one, other), (True, True, True))
+        self.assertEqual(kept(self, lower, two, (False,), one, other), (False, False, False))
         self.assertEqual(kept(self, higher, EMPTY, (True, True), (), ()), ())
         self.assertEqual(kept(self, lower, EMPTY, (True, True), (), ()), ())
         for web in random_webs(33, 60, 2, 6, 3) + [K, C, SELF, MIXED, samples.wide(), samples.knotted(3)]:
