@@ -1,10 +1,12 @@
 """What an argument must be, and the errors for those that are not so."""
 
-from roundowned.errors import NoBoards, NoFolk, NoHolder, NoHouse, NoLot, NoPerson, NoTable, NoVote, TooMany
+from roundowned.errors import (NoBoards, NoFolk, NoHolder, NoHouse, NoLot, NoMatch, NoPerson, NoTable, NoVote,
+                               TooMany)
 from roundowned.people import is_part
 
 MOST_FOLK = 6
 MOST_SHARES = 15
+MOST_PRICE = 1000
 
 
 def whole(thing):
@@ -23,7 +25,7 @@ def numbers_below(things, many):
 
 
 def climbs(numbers):
-    """Whether each number, or lot, is less than the next one."""
+    """Whether each number, or tuple of a kind, is less than the next one."""
     return all([low < high for low, high in zip(numbers, numbers[1:])])
 
 
@@ -63,6 +65,18 @@ def right_shares(thing, folk, many):
     if not isinstance(thing, tuple) or len(thing) > MOST_SHARES or len(thing) % 2 == 0:
         return False
     return all([right_holder(holder, folk, many) for holder in thing]) and list(thing) == sorted(thing)
+
+
+def right_share(web, thing):
+    """Whether a thing is a pair of a house and the place of a share of it."""
+    if not isinstance(thing, tuple) or len(thing) != 2 or not number_in(thing[0], 0, len(web.houses) - 1):
+        return False
+    return number_in(thing[1], 0, len(web.houses[thing[0]]) - 1)
+
+
+def right_prices(thing, many):
+    """Whether a thing is a tuple of so many prices."""
+    return isinstance(thing, tuple) and len(thing) == many and all([number_in(price, 0, MOST_PRICE) for price in thing])
 
 
 def right_row(thing, many):
@@ -121,6 +135,12 @@ def check_table(folk, thing):
     """Raise NoTable for what is no table for so many folk."""
     if not right_table(thing, folk):
         raise NoTable()
+
+
+def check_match(one, other):
+    """Raise NoMatch for webs with unlike numbers of folk or houses."""
+    if one.folk != other.folk or len(one.houses) != len(other.houses):
+        raise NoMatch()
 
 
 def check_size(web, most):

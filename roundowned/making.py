@@ -27,6 +27,14 @@ def sold(web, house, share, holder):
     return web_of_any_size(web.folk, web.houses[:house] + (dealt,) + web.houses[house + 1:])
 
 
+def resold(web, holders):
+    """The web in which the shares that a dict names, pairs (house, place), have the holders that it tells."""
+    rows = [list(shares) for shares in web.houses]
+    for (house, place), holder in holders.items():
+        rows[house][place] = holder
+    return web_of_any_size(web.folk, tuple([tuple(sorted(row)) for row in rows]))
+
+
 def founded(web, shares):
     """The web with one house more, behind the others."""
     if not right_shares(shares, web.folk, len(web.houses) + 1):

@@ -227,6 +227,33 @@ def random_webs(seed, count, folk=3, houses=5, most=5):
             for k in range(count)]
 
 
+def holders_of(web):
+    """All holders of a web, ascending."""
+    return [("f", k) for k in range(web.folk)] + [("h", k) for k in range(len(web.houses))]
+
+
+def shares_of(web):
+    """All pairs (house, place) of the shares of a web, ascending."""
+    return [(house, place) for house, shares in enumerate(web.houses) for place in range(len(shares))]
+
+
+def near_web(rng, web):
+    """A web with one share sold."""
+    if not web.houses:
+        return web
+    house, place = rng.choice(shares_of(web))
+    return sold(web, house, place, rng.choice(holders_of(web)))
+
+
+def plain_resold(web, holders, folk=None):
+    """The web in which the shares that a dict names have the holders that it tells."""
+    told = Web(1, ())
+    told.folk = folk or web.folk
+    told.houses = tuple(tuple(sorted(holders.get((house, place), holder) for place, holder in enumerate(shares)))
+                        for house, shares in enumerate(web.houses))
+    return told
+
+
 def picture(thing):
     """What can be seen of a thing, for a comparison with what it is later."""
     if isinstance(thing, Web):

@@ -3,9 +3,11 @@
 import unittest
 
 from roundowned.building import is_made
+from roundowned.buying import cheapest
 from roundowned.callers import chance
 from roundowned.carrying import carried
 from roundowned.counting import many_tables, wider
+from roundowned.doubts import surely
 from roundowned.knots import is_knot, verdict
 from roundowned.lots import least_lots, says_most, turns
 from roundowned.meetings import met, says
@@ -66,6 +68,12 @@ class Examples(unittest.TestCase):
 
     def test_e10(self):
         self.assertIs(is_made(2, ((0, 1),), Web(2, ((("f", 0), ("f", 1), ("h", 0)),))), True)
+
+    def test_e11(self):
+        self.assertEqual(cheapest(a, (0,), 0, ((5, 2, 3),)), 2)
+
+    def test_e12(self):
+        self.assertEqual(surely(a, {(0, 2): (("f", 0), ("f", 2))}, (0,), 0), "perhaps")
 
 
 if __name__ == "__main__":

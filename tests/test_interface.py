@@ -32,6 +32,14 @@ INTERFACE = {
     "kinds": "renamed(folk, table, order); first_of_kind(folk, table); same_kind(folk, table, other); kinds(folk, kind)",
     "building": "tripled(web); made(folk, table); made_all(folk, tables); is_made(folk, table, thing);"
                 "refuted(folk, table, web); fewest_houses(folk, table)",
+    "likeness": "are_alike(one, house, other, goal); same_stands(one, other); unlike_lot(one, house, other, goal);"
+                "unlike_stand(one, other)",
+    "idle": "idle(web); twins(web)",
+    "buying": "cheapest(web, lot, house, prices); fewest_sold(web, lot, house); purchase(web, lot, house, prices);"
+              "sold_out(web, lot, house); sales(one, other); is_purchase(web, lot, house, prices, thing);"
+              "cheapest_votes(web, house, prices)",
+    "doubts": "dealt(web, doubts); surely(web, doubts, lot, house); dealings(web, doubts, lot, house);"
+              "ask_first(web, doubts, lot, house)",
 }
 
 

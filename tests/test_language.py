@@ -18,8 +18,8 @@ WORDS = set("""type typing typing_extensions enum Enum IntEnum StrEnum Flag IntF
 namedtuple NamedTuple TypedDict TYPE_CHECKING abstractmethod dataclass overload contextmanager""".split())
 BARRED = WORDS | set("""register mro elements open input law version_info
 with_traceback add_note breakpoint compile dir eval exec exit gc globals help id locals os quit super vars""".split())
-NODES = """Global AsyncFunctionDef Try TryStar With Match Yield YieldFrom GeneratorExp Await NamedExpr Starred Div Nonlocal
-AnnAssign Delete Assert JoinedStr MatMult""".split()
+NODES = """Global AsyncFunctionDef TryStar ExceptHandler With Match Yield YieldFrom GeneratorExp Await NamedExpr Starred Div Nonlocal
+AnnAssign Assert JoinedStr MatMult""".split()
 
 
 def sources():
@@ -76,7 +76,7 @@ class Language(unittest.TestCase):
     def test_modules_hold_definitions_alone(self):
         for name, text in sources():
             for node in ast.parse(text).body:
-                plain = isinstance(node, ast.Assign) and isinstance(node.value, ast.Constant)
+                plain = isinstance(node, ast.Assign) and is_plain(node.value)
                 doc = isinstance(node, ast.Expr) and isinstance(node.value, ast.Constant)
                 self.assertTrue(plain or doc or isinstance(node, (ast.ImportFrom, ast.FunctionDef, ast.ClassDef)), name)
 
@@ -87,8 +87,39 @@ class Language(unittest.TestCase):
                 self.assertNotIsInstance(node, barred, (name, getattr(node, "lineno", 0)))
                 if isinstance(node, ast.Constant):
                     self.assertNotIsInstance(node.value, (float, complex))
+                if isinstance(node, ast.Delete):
+                    self.assertTrue(all(isinstance(one, ast.Subscript) for one in node.targets), (name, node.lineno))
+
+    def test_what_is_put_back_at_last(self):
+        for name, text in sources():
+            for node in ast.walk(ast.parse(text)):
+                for row in node.finalbody if isinstance(node, ast.Try) else []:
+                    self.assertIsInstance(row, ast.Assign, name)
+                    self.assertIsInstance(row.value, ast.Name, name)
+                    self.assertIsInstance(row.targets[0], ast.Attribute, name)
+
+    def test_no_name_is_a_method_and_an_attribute(self):
+        methods, attributes = set(), set()
+        for name, text in sources():
+            for node in ast.walk(ast.parse(text)):
+                if isinstance(node, ast.ClassDef):
+                    own = [one.name for one in node.body if isinstance(one, ast.FunctionDef)]
+                    self.assertEqual(len(own), len(set(own)))
+                    methods.update(own)
+                if isinstance(node, ast.Attribute) and isinstance(node.ctx, ast.Store):
+                    attributes.add(node.attr)
+        self.assertFalse(methods & attributes)
+        for name, text in sources():
+            for node in ast.walk(ast.parse(text)):
+                if isinstance(node, ast.Attribute):
+                    self.assertIn(node.attr, methods | attributes | METHODS, (name, node.lineno))
 
     def test_names(self):
+        own = set()
+        for name, text in sources():
+            for node in ast.walk(ast.parse(text)):
+                if isinstance(node, ast.ClassDef):
+                    own |= {one.name for one in node.body if isinstance(one, ast.FunctionDef)}
         for name, text in sources():
             tree = ast.parse(text)
             bound = bindings(tree)
@@ -97,7 +128,7 @@ class Language(unittest.TestCase):
                 if isinstance(node, ast.Name) and hasattr(builtins, node.id):
                     self.assertIn(node.id, BUILTINS, (name, node.lineno))
                 if isinstance(node, ast.Call) and isinstance(node.func, ast.Attribute):
-                    self.assertIn(node.func.attr, METHODS, (name, node.lineno))
+                    self.assertIn(node.func.attr, METHODS | own, (name, node.lineno))
 
     def test_no_local_name_is_an_import_or_a_class(self):
         for name, text in sources():
@@ -145,6 +176,16 @@ class Language(unittest.TestCase):
                 if token.type == tokenize.STRING and not token.string.startswith('"""'):
                     self.assertFalse(set(token.string.strip('"').split()) & WORDS, (name, token.start))
                     self.assertNotIn("%", token.string)
+
+
+def is_plain(node):
+    """Whether a value at module level is one of those that may stand there."""
+    if isinstance(node, ast.Dict):
+        return all(isinstance(key, ast.Constant) for key in node.keys) and all(
+            isinstance(value, ast.Name) or is_plain(value) and not isinstance(value, ast.Dict) for value in node.values)
+    if isinstance(node, ast.Tuple):
+        return all(is_plain(one) and not isinstance(one, ast.Dict) for one in node.elts)
+    return isinstance(node, ast.Constant)
 
 
 def defined(tree):
