@@ -18,11 +18,12 @@ def idle_places(web, house):
     apart = set_apart(web, house)
     shares = web.houses[house]
     weighty = [False for _ in shares]
-    for lot in all_lots(web.folk):
-        # What the lot carries without the house stays so whoever holds its shares:
+    # The empty lot, the least one, carries nothing anyway.
+    for lot in all_lots(web.folk)[1:]:
+        # What a lot carries without the house stays so whoever holds its shares:
         # to the tables nothing matters but whether the lot carries the house by these.
         flags = flags_with(shares, lot, carried(apart, lot))
-        crossing = crossing_flag(flags, lot)
+        crossing = crossing_flag(flags)
         weighty = [heavy or flag == crossing for heavy, flag in zip(weighty, flags)]
     return [place for place, heavy in enumerate(weighty) if not heavy]
 
@@ -38,15 +39,16 @@ def flags_with(shares, lot, houses):
     return [number in (lot if kind == "f" else carried_too) for kind, number in shares]
 
 
-def crossing_flag(flags, lot):
-    """The flag of the shares of which one, if it is turned, turns the house; None if one turns nothing."""
+def crossing_flag(flags):
+    """The flag of the shares of which one, if it is turned, turns the house; None if one turns nothing.
+
+    Each can be turned: without the house itself a lot never has what it holds, and always what its folk hold.
+    """
     half = len(flags) // 2 + 1
     many = flags.count(True)
     if many == half:
-        # The house itself may hold the share then, and it is not with the lot without it.
         return True
-    # To the empty lot no share can be sold: it carries nothing.
-    return False if many == half - 1 and lot else None
+    return False if many == half - 1 else None
 
 
 def twins(web):

@@ -104,6 +104,11 @@ class Buying(unittest.TestCase):
                         self.assertEqual(kept(self, purchase, web, lot, house, prices), [])
                         self.assertEqual(kept(self, cheapest, web, lot, house, prices), 0)
 
+        # Far more than half of the shares is no reason to buy some of the others.
+        large = Web(2, ((("f", 0),) * 12 + (("f", 1),) * 3, (("f", 1), ("h", 0), ("h", 1))))
+        for house, told in [(0, []), (1, [(1, 0)])]:
+            self.assertEqual(self.check(large, (0,), house, ((5,) * 15, (5, 7, 7))), told)
+
     def test_all_lots_of_shares(self):
         rng = random.Random(222)
         count = 0

@@ -11,10 +11,12 @@ from roundowned.doubts import surely
 from roundowned.knots import is_knot, verdict
 from roundowned.lots import least_lots, says_most, turns
 from roundowned.meetings import met, says
+from roundowned.minutes import told
 from roundowned.orders import end_row, ends
 from roundowned.rests import double_votes, rests
 from roundowned.rings import circles, ring
 from roundowned.tables import kind, open_lot
+from roundowned.texts import web_text
 from roundowned.unrest import unrest
 from roundowned.webs import Web, held
 
@@ -74,6 +76,12 @@ class Examples(unittest.TestCase):
 
     def test_e12(self):
         self.assertEqual(surely(a, {(0, 2): (("f", 0), ("f", 2))}, (0,), 0), "perhaps")
+
+    def test_e13(self):
+        self.assertEqual(told(3, [((True, False, False), True)], (True, False, True)), "yes")
+
+    def test_e14(self):
+        self.assertEqual(web_text(k), "folk 1\nhouse f0 h1 h1\nhouse f0 h0 h0\n")
 
 
 if __name__ == "__main__":

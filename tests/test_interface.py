@@ -40,6 +40,17 @@ INTERFACE = {
               "cheapest_votes(web, house, prices)",
     "doubts": "dealt(web, doubts); surely(web, doubts, lot, house); dealings(web, doubts, lot, house);"
               "ask_first(web, doubts, lot, house)",
+    "minutes": "fitting(folk, minutes); told(folk, minutes, vote); clash(folk, minutes); best_vote(folk, minutes)",
+    "town": "Town(web, vote, boards)",
+    "texts": "web_text(web); table_text(table); minutes_text(minutes)",
+    "reading": "read_web(text); read_table(text); read_minutes(text)",
+    "desk": "Desk()",
+}
+METHODS = {
+    "Web": "__init__(folk, houses); __eq__(other)",
+    "Town": "__init__(web, vote, boards); web(); vote(); boards(); meet(house); say(person, flag); sell(house, share, holder);"
+            "found(shares, flag); settle(); carried(lot); back(); depth(); copy(); trying(action)",
+    "Desk": "__init__(); tell(line); undoable()",
 }
 
 
@@ -57,7 +68,10 @@ class Interface(unittest.TestCase):
                 if isinstance(node, ast.ClassDef):
                     methods = {one.name: one for one in node.body if isinstance(one, ast.FunctionDef)}
                     found.append(f"{node.name}({parameters(methods['__init__'])})")
-                    self.assertIn("__eq__", methods)
+                    for one in METHODS[node.name].split(";"):
+                        name, _, names = one.strip().rstrip(")").partition("(")
+                        self.assertEqual(parameters(methods[name]), names)
+                        self.assertEqual(methods[name].args.defaults, [])
             for one in told.split(";"):
                 self.assertIn(one.strip(), found)
 
