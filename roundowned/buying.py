@@ -47,7 +47,7 @@ def purchase(web, lot, house, prices):
 
 def is_among(house, houses):
     """Whether a house is one of those that are told by their bits."""
-    return houses >> house & 1 == 1
+    return (houses >> house) & 1 == 1
 
 
 def purchases(web, lot, prices):

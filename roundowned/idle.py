@@ -42,7 +42,7 @@ def flags_with(shares, lot, houses):
 def crossing_flag(flags):
     """The flag of the shares of which one, if it is turned, turns the house; None if one turns nothing.
 
-    Each can be turned: without the house itself a lot never has what it holds, and always what its folk hold.
+    Each can be turned: sold to the house itself, that is not with the lot, or to one of the lot.
     """
     half = len(flags) // 2 + 1
     many = flags.count(True)
